@@ -1,0 +1,1 @@
+"""Bindbench: jobs at a binder's bench."""
