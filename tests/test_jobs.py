@@ -1,8 +1,8 @@
 import unittest
 
 from anything import Agreeing, Hostile, Posing, anything
+from asking import alike, bad
 from bindbench.styles import Job, Style, by_rank, by_style, first_of
-from refusing import bad
 
 LAST_HOUR = 10 ** 6
 
@@ -142,23 +142,17 @@ class Hastened(unittest.TestCase):
 
 
 class Compared(unittest.TestCase):
-    def alike(self, one, other, so):
-        self.assertIs(one == other, so)
-        self.assertIs(other == one, so)
-        self.assertIs(one != other, not so)
-        self.assertIs(other != one, not so)
-
     def test_alike(self):
         job = Job(7, calf(), 0, 52)
-        self.alike(job, job, True)
-        self.alike(job, Job(7, calf()), True)
-        self.alike(job, Job(7, calf(), 0, 52, True).hastened(False), True)
+        alike(self, job, job, True)
+        alike(self, job, Job(7, calf()), True)
+        alike(self, job, Job(7, calf(), 0, 52, True).hastened(False), True)
 
     def test_unlike(self):
         for other in [Job(8, calf(), 0, 52), Job(7, cloth(), 0, 52), Job(7, calf(), 1, 52), Job(7, calf(), 0, 53),
                       Job(7, calf(), 0, 52, True), Job(7, calf().left_out(1), 0, 52)]:
             with self.subTest(str(other)):
-                self.alike(Job(7, calf(), 0, 52), other, False)
+                alike(self, Job(7, calf(), 0, 52), other, False)
 
     def test_with_what_is_no_job(self):
         job = Job(7, calf(), 10, 200)

@@ -1,8 +1,8 @@
 import unittest
 
 from anything import Agreeing, Hostile, Posing, anything
+from asking import alike, bad, none_such, too_many
 from bindbench.styles import Job, Style
-from refusing import bad, none_such, too_many
 
 SEW, PRESS, GLUE = ("sew", 6, 0), ("press", 12, 8), ("glue", 2, 24)
 COVER, LETTER = ("cover", 5, 1), ("letter", 240, 240)
@@ -245,24 +245,18 @@ class LeftOut(unittest.TestCase):
 
 
 class Compared(unittest.TestCase):
-    def alike(self, one, other, so):
-        self.assertIs(one == other, so)
-        self.assertIs(other == one, so)
-        self.assertIs(one != other, not so)
-        self.assertIs(other != one, not so)
-
     def test_alike(self):
         style = calf()
-        self.alike(style, style, True)
-        self.alike(style, Style("calf", (SEW, PRESS, GLUE)), True)
-        self.alike(style, Style("calf", [SEW, PRESS]).put_in(GLUE), True)
+        alike(self, style, style, True)
+        alike(self, style, Style("calf", (SEW, PRESS, GLUE)), True)
+        alike(self, style, Style("calf", [SEW, PRESS]).put_in(GLUE), True)
 
     def test_unlike(self):
         for other in [Style("cloth", [SEW, PRESS, GLUE]), Style("calf", [SEW, PRESS]), Style("calf", [SEW, GLUE, PRESS]),
                       Style("calf", [SEW, PRESS, GLUE, GLUE]), Style("calf", [SEW, PRESS, ("glue", 3, 24)]),
                       Style("calf", [SEW, PRESS, ("glue", 2, 23)]), Style("calf", [SEW, PRESS, ("sew", 2, 24)])]:
             with self.subTest(repr(other)):
-                self.alike(calf(), other, False)
+                alike(self, calf(), other, False)
 
     def test_with_what_is_no_style(self):
         for called, thing in anything():

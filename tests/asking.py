@@ -1,4 +1,4 @@
-"""Asks that something is refused, and by which fields."""
+"""What several tests ask: that something is refused, and by which fields; that two are alike, or aren't."""
 
 from bindbench.errors import BadValue, NoSuch, TooMany
 
@@ -22,3 +22,10 @@ def none_such(test, what, name, ask, *told, **named):
 
 def too_many(test, most, ask, *told, **named):
     test.assertEqual(_caught(test, TooMany, ask, told, named).most, most)
+
+
+def alike(test, one, other, so):
+    test.assertIs(one == other, so)
+    test.assertIs(other == one, so)
+    test.assertIs(one != other, not so)
+    test.assertIs(other != one, not so)
