@@ -252,8 +252,8 @@ class Compared(unittest.TestCase):
         alike(self, style, Style("calf", [SEW, PRESS]).put_in(GLUE), True)
 
     def test_unlike(self):
-        for other in [Style("cloth", [SEW, PRESS, GLUE]), Style("calf", [SEW, PRESS]), Style("calf", [SEW, GLUE, PRESS]),
-                      Style("calf", [SEW, PRESS, GLUE, GLUE]), Style("calf", [SEW, PRESS, ("glue", 3, 24)]),
+        for other in [Style("cloth", [SEW, PRESS, GLUE]), Style("calf", [SEW, PRESS]),
+                      Style("calf", [SEW, GLUE, PRESS]), Style("calf", [SEW, PRESS, GLUE, GLUE]), Style("calf", [SEW, PRESS, ("glue", 3, 24)]),
                       Style("calf", [SEW, PRESS, ("glue", 2, 23)]), Style("calf", [SEW, PRESS, ("sew", 2, 24)])]:
             with self.subTest(repr(other)):
                 alike(self, calf(), other, False)
