@@ -253,8 +253,9 @@ class Compared(unittest.TestCase):
 
     def test_unlike(self):
         for other in [Style("cloth", [SEW, PRESS, GLUE]), Style("calf", [SEW, PRESS]),
-                      Style("calf", [SEW, GLUE, PRESS]), Style("calf", [SEW, PRESS, GLUE, GLUE]), Style("calf", [SEW, PRESS, ("glue", 3, 24)]),
-                      Style("calf", [SEW, PRESS, ("glue", 2, 23)]), Style("calf", [SEW, PRESS, ("sew", 2, 24)])]:
+                      Style("calf", [SEW, GLUE, PRESS]), Style("calf", [SEW, PRESS, GLUE, GLUE]),
+                      Style("calf", [SEW, PRESS, ("glue", 3, 24)]), Style("calf", [SEW, PRESS, ("glue", 2, 23)]),
+                      Style("calf", [SEW, PRESS, ("sew", 2, 24)])]:
             with self.subTest(repr(other)):
                 alike(self, calf(), other, False)
 
