@@ -54,7 +54,67 @@ STYLES = {
     "by_style": "(jobs)",
 }
 
-FILES = {"bindbench.errors": ERRORS, "bindbench.words": WORDS, "bindbench.styles": STYLES}
+BENCHES = {
+    "Bench": "(hands=1, presses=1)",
+    "Bench.places": "(self)",
+    "Bench.how_many": "(self, kind)",
+    "Bench.__eq__": "(self, other)",
+    "Bench.__len__": "(self)",
+    "Bench.__str__": "(self)",
+    "Plan": "(bench, jobs=None)",
+    "Plan.jobs": "(self)",
+    "Plan.rows": "(self, number=None)",
+    "Plan.done": "(self, number)",
+    "Plan.late": "(self, number=None)",
+    "Plan.ready": "(self, number, step)",
+    "Plan.held": "(self, number, step)",
+    "Plan.chain": "(self, number)",
+    "Plan.where": "(self, number, hour)",
+    "Plan.at": "(self, hour)",
+    "Plan.next_free": "(self, place, hours=1, since=0)",
+    "Plan.busy": "(self, place)",
+    "Plan.end": "(self)",
+    "Plan.with_job": "(self, job)",
+    "Plan.without_job": "(self, number)",
+    "Plan.moved": "(self, other)",
+    "Plan.__eq__": "(self, other)",
+    "Plan.__len__": "(self)",
+    "Plan.__str__": "(self)",
+}
+
+ROUNDS = {
+    "Round": "(length, calls=None)",
+    "Round.length": "(self)",
+    "Round.total": "(self)",
+    "Round.calls": "(self)",
+    "Round.keeps_up": "(self)",
+    "Round.begins": "(self, turn, call)",
+    "Round.ends": "(self, turn, call)",
+    "Round.at": "(self, hour)",
+    "Round.waiting": "(self, hour)",
+    "Round.how_many": "(self, hour)",
+    "Round.idle": "(self, hour)",
+    "Round.first_over": "(self, most)",
+    "Round.__eq__": "(self, other)",
+    "Round.__len__": "(self)",
+    "Round.__str__": "(self)",
+    "parted": "(one, other)",
+}
+
+READING = {
+    "read_style": "(text)",
+    "read_job": "(style, text)",
+    "read_round": "(text)",
+}
+
+FILES = {
+    "bindbench.errors": ERRORS,
+    "bindbench.words": WORDS,
+    "bindbench.styles": STYLES,
+    "bindbench.benches": BENCHES,
+    "bindbench.rounds": ROUNDS,
+    "bindbench.reading": READING,
+}
 
 
 def found(file, name):
