@@ -1,6 +1,7 @@
 """What several tests ask: that something is refused, and by which fields; that two are alike, or aren't."""
 
-from bindbench.errors import BadValue, NoSuch, TooMany
+from anything import Agreeing, Hostile, Posing, anything
+from bindbench.errors import Already, BadValue, NoPaper, NoSuch, TooMany
 
 
 def _caught(test, kind, ask, told, named):
@@ -29,3 +30,23 @@ def alike(test, one, other, so):
     test.assertIs(other == one, so)
     test.assertIs(one != other, not so)
     test.assertIs(other != one, not so)
+
+
+def already(test, what, name, ask, *told, **named):
+    error = _caught(test, Already, ask, told, named)
+    test.assertEqual((error.what, error.name), (what, name))
+
+
+def no_paper(test, ask, *told, **named):
+    test.assertEqual(_caught(test, NoPaper, ask, told, named).what, "paper")
+
+
+def unlike_anything(test, thing, *others):
+    """That a thing is unlike what is no such object, whatever that says."""
+    for called, other in anything():
+        with test.subTest(called):
+            test.assertIs(thing == other, False)
+            test.assertIs(thing != other, True)
+    for other in [Agreeing(), Hostile(), Posing(type(thing)), type(thing), str(thing), *others]:
+        test.assertIs(thing == other, False)
+        test.assertIs(thing != other, True)

@@ -107,6 +107,56 @@ READING = {
     "read_round": "(text)",
 }
 
+HALLS = {
+    "Hall": "(sizes, lost=None)",
+    "Hall.sizes": "(self)",
+    "Hall.lost": "(self)",
+    "Hall.is_slot": "(self, thing)",
+    "Hall.with_lost": "(self, slot)",
+    "Hall.with_found": "(self, slot)",
+    "Hall.slots_of": "(self, order, most=40)",
+    "Hall.how_many": "(self, order)",
+    "Hall.__eq__": "(self, other)",
+    "Hall.__len__": "(self)",
+    "Hall.__str__": "(self)",
+    "Order": "(job, size=1, first=0, last=None)",
+    "Order.of_job": "(self)",
+    "Order.numbered": "(self)",
+    "Order.wants": "(self)",
+    "Order.rank": "(self)",
+    "Order.hastened": "(self, haste=True)",
+    "Order.__eq__": "(self, other)",
+    "Order.__len__": "(self)",
+    "Order.__str__": "(self)",
+    "Order.__repr__": "(self)",
+}
+
+DEALINGS = {
+    "kept": "(hall, orders)",
+    "put_off": "(hall, orders)",
+    "bars": "(hall, orders, number)",
+    "Nightbook": "(hall)",
+    "Nightbook.bring": "(self, order)",
+    "Nightbook.drop": "(self, number)",
+    "Nightbook.hasten": "(self, number, haste=True)",
+    "Nightbook.lose": "(self, slot)",
+    "Nightbook.restore": "(self, slot)",
+    "Nightbook.hall": "(self)",
+    "Nightbook.orders": "(self)",
+    "Nightbook.kept": "(self)",
+    "Nightbook.dealing": "(self)",
+    "Nightbook.slot_of": "(self, number)",
+    "Nightbook.levels": "(self)",
+    "Nightbook.copy": "(self)",
+    "Nightbook.__eq__": "(self, other)",
+    "Nightbook.__len__": "(self)",
+}
+
+PAPERS = {
+    "kept_paper": "(hall, orders)",
+    "most_paper": "(hall, orders, first, last)",
+}
+
 FILES = {
     "bindbench.errors": ERRORS,
     "bindbench.words": WORDS,
@@ -114,6 +164,9 @@ FILES = {
     "bindbench.benches": BENCHES,
     "bindbench.rounds": ROUNDS,
     "bindbench.reading": READING,
+    "bindbench.halls": HALLS,
+    "bindbench.dealings": DEALINGS,
+    "bindbench.papers": PAPERS,
 }
 
 
