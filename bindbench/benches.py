@@ -57,13 +57,28 @@ def _are_jobs(thing):
     return len(set([job.numbered() for job in thing])) == len(thing)
 
 
+def _over_by(taken, since):
+    """How many of what is taken, rising by BEGIN and so by END, are over by an hour."""
+    # By halves: a house makes plans anew at nearly each deed.
+    least = 0
+    most = len(taken)
+    while least < most:
+        middle = (least + most) // 2
+        if taken[middle][1] <= since:
+            least = middle + 1
+        else:
+            most = middle
+    return least
+
+
 def _free_from(taken, hours, since):
     """The least hour, not less than since, from which on none of what is taken, rising by BEGIN, is in the way."""
     hour = since
-    for begin, end, _, _ in taken:
+    for place in range(_over_by(taken, since), len(taken)):
+        begin, end, _, _ = taken[place]
         if begin - hour >= hours:
             return hour
-        hour = max(hour, end)
+        hour = end
     return hour
 
 

@@ -1,7 +1,7 @@
 """Styles, in which books are bound, and the jobs of binding them."""
 
 from bindbench.errors import BadValue, NoSuch, TooMany
-from bindbench.words import FIRST_NUMBER, LAST_NUMBER, is_kind, is_name, is_step, is_truth, is_whole, kind_of
+from bindbench.words import is_hour, is_kind, is_name, is_number, is_step, is_truth, is_whole, kind_of
 
 MOST_STEPS = 12
 
@@ -86,14 +86,14 @@ class Job:
     """A book to be bound in a STYLE, brought and due at an HOUR."""
 
     def __init__(self, number, style, brought=0, due=None, haste=False):
-        if not is_whole(number, FIRST_NUMBER, LAST_NUMBER):
+        if not is_number(number):
             raise BadValue("number")
         if type(style) is not Style:
             raise BadValue("style")
-        if not is_whole(brought, 0):
+        if not is_hour(brought):
             raise BadValue("brought")
         last = brought + style.span() if due is None else due
-        if not is_whole(last, brought):
+        if not is_hour(last, brought):
             raise BadValue("due")
         if not is_truth(haste):
             raise BadValue("haste")

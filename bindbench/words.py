@@ -20,6 +20,16 @@ def is_whole(thing, least, most=10 ** 6):
     return type(thing) is int and least <= thing <= most
 
 
+def is_number(thing):
+    """Whether anything is a NUMBER."""
+    return is_whole(thing, FIRST_NUMBER, LAST_NUMBER)
+
+
+def is_hour(thing, first=0):
+    """Whether anything is an HOUR, not less than first."""
+    return is_whole(thing, first)
+
+
 def is_truth(thing):
     """Whether anything is True or False."""
     return thing is True or thing is False

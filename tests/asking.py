@@ -1,7 +1,7 @@
 """What several tests ask: that something is refused, and by which fields; that two are alike, or aren't."""
 
 from anything import Agreeing, Hostile, Posing, anything
-from bindbench.errors import Already, BadValue, NoPaper, NoSuch, TooMany
+from bindbench.errors import Already, BadValue, CantBe, NoPaper, NoSuch, TooMany, Untold
 
 
 def _caught(test, kind, ask, told, named):
@@ -50,3 +50,11 @@ def unlike_anything(test, thing, *others):
     for other in [Agreeing(), Hostile(), Posing(type(thing)), type(thing), str(thing), *others]:
         test.assertIs(thing == other, False)
         test.assertIs(thing != other, True)
+
+
+def cant_be(test, about, ask, *told, **named):
+    test.assertEqual(_caught(test, CantBe, ask, told, named).about, about)
+
+
+def untold(test, place, ask, *told, **named):
+    test.assertEqual(_caught(test, Untold, ask, told, named).place, place)

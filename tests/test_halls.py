@@ -19,7 +19,8 @@ class Made(unittest.TestCase):
             self.assertEqual((hall.sizes(), hall.lost(), len(hall)), (list(sizes), [], len(sizes)))
 
     def test_frames_beyond(self):
-        for sizes in [[], (), [12] * 10, [0], [61], [12, 0], [12, 61], [-1], [12, True], [12, None], [12, "12"], [[12]]]:
+        for sizes in [[], (), [12] * 10, [0], [61], [12, 0], [12, 61], [-1], [12, True], [12, None], [12, "12"],
+                      [[12]]]:
             bad(self, "sizes", Hall, sizes)
             bad(self, "sizes", Hall, sizes=sizes)
 

@@ -157,6 +157,51 @@ PAPERS = {
     "most_paper": "(hall, orders, first, last)",
 }
 
+CHECKING = {
+    "check_kept": "(hall, orders, paper)",
+    "check_most": "(hall, orders, first, last, paper)",
+    "check_fewest": "(hall, orders, ahead, now, paper)",
+}
+
+STUFFS = {
+    "is_page": "(thing)",
+    "page_text": "(page)",
+    "read_page": "(text)",
+    "Stock": "()",
+    "Stock.put": "(self, page)",
+    "Stock.pages": "(self)",
+    "Stock.lots": "(self)",
+    "Stock.lot_of": "(self, name)",
+    "Stock.lacks": "(self, name)",
+    "Stock.covers": "(self, name)",
+    "Stock.sets": "(self, waiting=None)",
+    "Stock.copy": "(self)",
+    "Stock.__eq__": "(self, other)",
+    "Stock.__len__": "(self)",
+}
+
+HOUSES = {
+    "House": "(bench, hall, styles)",
+    "House.do": "(self, deed)",
+    "House.tell": "(self, story)",
+    "House.many": "(self)",
+    "House.plan": "(self)",
+    "House.nightbook": "(self)",
+    "House.stock": "(self)",
+    "House.job": "(self, number)",
+    "House.order": "(self, number)",
+    "House.verdict": "(self, number)",
+    "House.verdicts": "(self, word=None)",
+    "House.copy": "(self)",
+    "House.__eq__": "(self, other)",
+    "House.__len__": "(self)",
+}
+
+DESK = {
+    "Desk": "()",
+    "Desk.say": "(self, line)",
+}
+
 FILES = {
     "bindbench.errors": ERRORS,
     "bindbench.words": WORDS,
@@ -167,6 +212,10 @@ FILES = {
     "bindbench.halls": HALLS,
     "bindbench.dealings": DEALINGS,
     "bindbench.papers": PAPERS,
+    "bindbench.checking": CHECKING,
+    "bindbench.stuffs": STUFFS,
+    "bindbench.houses": HOUSES,
+    "bindbench.desk": DESK,
 }
 
 
