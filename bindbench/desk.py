@@ -30,9 +30,11 @@ def _numbers(words):
     return [number_of(word) for word in words]
 
 
+# Each of these tells a DEED, or what is none by its form, which the house refuses.
+
+
 def _job_deed(words):
-    """The DEED that a JOB's text tells, if it is one: by its form the house knows."""
-    if len(words) == 6 and words[5] != "haste" or len(words) not in (5, 6):
+    if words[5:] not in ([], ["haste"]) or len(words) < 5:
         return None
     number, brought, due = _numbers([words[1], words[3], words[4]])
     return ("job", number, words[2], brought, due, len(words) == 6)
@@ -63,9 +65,7 @@ def _slot_deed(words):
 
 def _page_deed(words):
     page = read_page(_told(words))
-    if page is None:
-        return None
-    return ("page", page)
+    return None if page is None else ("page", page)
 
 
 def _word_deed(words):
@@ -79,8 +79,8 @@ DEEDS = {
 }
 
 
-def _verdict(house, words):
-    number = number_of(words[1])
+def _verdict(house, word):
+    number = number_of(word)
     if not is_number(number):
         raise BadValue("line")
     told = []
@@ -92,36 +92,34 @@ def _verdict(house, words):
     return _told(told)
 
 
-def _at(house, words):
-    hour = number_of(words[1])
+def _at(house, word):
+    hour = number_of(word)
     if not is_hour(hour):
         raise BadValue("line")
     return _rows_told([place + (number, step) for place, number, step in house.plan().at(hour)])
 
 
-def _verdicts(house, _):
+def _verdicts(house):
     return _rows_told([(number, verdict[0]) for number, verdict in house.verdicts()])
 
 
-def _kept(house, _):
+def _kept(house):
     numbers = house.nightbook().kept()
     if len(numbers) == 0:
         return NONE
     return _told(numbers)
 
 
-def _dealt(house, _):
+def _dealt(house):
     return _rows_told([(number,) + slot for number, slot in house.nightbook().dealing()])
 
 
-def _lots(house, _):
+def _lots(house):
     return _rows_told(house.stock().lots())
 
 
-QUESTIONS = {
-    ("verdict", 2): _verdict, ("at", 2): _at, ("verdicts", 1): _verdicts, ("kept", 1): _kept, ("dealt", 1): _dealt,
-    ("lots", 1): _lots,
-}
+QUESTIONS = {"verdicts": _verdicts, "kept": _kept, "dealt": _dealt, "lots": _lots}
+QUESTIONS_OF_ONE = {"verdict": _verdict, "at": _at}
 
 
 class Desk:
@@ -193,10 +191,15 @@ class Desk:
         """Answers a line behind begin."""
         telling = DEEDS.get(words[0])
         if telling is not None:
-            # Where the words tell no DEED, the house refuses it by its form.
-            found = self._house.do(telling(words))
-            return _rows_told([(DONE,)] + list(found))
-        asking = QUESTIONS.get((words[0], len(words)))
-        if asking is None:
-            raise BadValue("line")
-        return asking(self._house, words)
+            return _rows_told([(DONE,)] + list(self._house.do(telling(words))))
+        return self._ask(words)
+
+    def _ask(self, words):
+        """Answers a question."""
+        if len(words) == 1 and words[0] in QUESTIONS:
+            asking = QUESTIONS[words[0]]
+            return asking(self._house)
+        if len(words) == 2 and words[0] in QUESTIONS_OF_ONE:
+            asking_of = QUESTIONS_OF_ONE[words[0]]
+            return asking_of(self._house, words[1])
+        raise BadValue("line")

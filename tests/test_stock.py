@@ -192,9 +192,8 @@ class Told(unittest.TestCase):
                     lambda: stock.sets(False)):
             told, again = ask(), ask()
             self.assertIs(type(told), list)
-            self.assertTrue(told)
             told.clear()
-            self.assertEqual(ask(), again)
+            self.assertEqual((len(again) > 0, ask()), (True, again))
 
     def test_a_copy_goes_on_by_itself(self):
         stock = stock_of(dukes(), lot(3, "oaka", 42))
