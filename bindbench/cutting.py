@@ -44,6 +44,7 @@ class Cutting:
         if page[0] == "lot":
             _, _, colour, name, inches = page
             self._lots[name] = Lot(colour, inches)
+            # SETS of other COLOURS could not be CUT ahead of this PAGE, and have nothing more to be CUT of now.
             self._cut_what_waits(colour)
         elif page[0] == "set":
             _, _, name, colour, wants = page
